@@ -1,0 +1,1 @@
+"""Arrowcells: memory as chains of cells, and what holds for all stores."""
