@@ -64,9 +64,17 @@ class Drawing:
         found = [{}]
         for number, item in enumerate(chains):
             runs = self.runs(item[1], item[2], masks[number] & 1 == 1)
-            found = [{**owners, **{node: number for node in run}} for owners in found for run in runs
+            found = [_owned(owners, run, number) for owners in found for run in runs
                      if not any([node in owners for node in run])]
         return found
+
+
+def _owned(owners, run, number):
+    """The owners of nodes, with a chain as the owner of the nodes of a run."""
+    more = dict(owners)
+    for node in run:
+        more[node] = number
+    return more
 
 
 def drawings_of(knots, hidden):

@@ -86,7 +86,7 @@ def letters_shown(tree):
     shown = {}
     for item in items:
         for word in item[1:3]:
-            if is_letter(word) and item[0] != "lost" and word not in hidden:
+            if is_letter(word) and word not in hidden:
                 shown[word] = True
     return shown
 

@@ -3,15 +3,12 @@
 from arrowcells.errors import InvalidNames, InvalidShape, TooMany, UnknownName
 from arrowcells.kinds import are_names, is_ascending, is_letter, number_in
 
-# Four names have at most three knots each beside END.
-MOST_KNOTS = 13
-
 
 def knots_in(value):
     """The tuple of the knots (names, sign, next) of a shape, None for what is no shape."""
-    words = value.split(" ") if isinstance(value, str) else []
-    if not 1 <= len(words) <= MOST_KNOTS:
+    if not isinstance(value, str):
         return None
+    words = value.split(" ")
     knots = [_knot_in(word, len(words)) for word in words]
     if None in knots or not _are_all_names(knots) or not _are_real_knots(knots):
         return None

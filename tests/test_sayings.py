@@ -40,9 +40,12 @@ BAD = [
     "not ( not ( not ( not ( not ( rest ) ) ) ) )", "not ( ( ( ( ( rest ) or ( rest ) ) and ( rest ) ) or ( rest ) ) and ( rest ) )",
     "( rest ) and ( rest ) and ( rest ) and ( rest ) and ( rest ) and ( rest ) and ( rest )",
     "lost 1+2 * lost 1+3", "lost 1+2 1+3", "( lost 1+2 ) and ( lost 1+3 )", "( lost 1+2 ) or ( not ( chain x y 1+4 ) )",
+    "link x y 1", "chain", "chain x", "chain END", "not [ rest )", "( rest ) and [ rest )", "not ( not ( rest ) ]",
+    "( ( rest ) or ( rest ) ] and ( rest )", "not ( not ( rest ) x", "missing x", "loss 1", "x < y", "x y z",
     "rest\n", "\trest", "rest*rest", "not  ( rest )", "( rest ) AND ( rest )", "NOT ( rest )",
 ]
 NO_TREES = [
+    ("and", None), ("or", 5), ("and", "rest"), ("picture", "", None), ("picture", "", 5), ("picture", "", "rest"),
     ("picture", "", ()), ("picture", ("rest",)), ("picture", "", (("rest",),), ()), ("picture", None, (("rest",),)),
     ("picture", "", [("rest",)]), ["picture", "", (("rest",),)], ("picture", "", (["rest"],)), ("picture", "", ("rest",)),
     ("picture", "", (("rest", ""),)), ("picture", "", (("rest",), ("rest",))), ("picture", "h", (("rest",),)),

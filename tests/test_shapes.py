@@ -19,7 +19,7 @@ NO_SHAPES = [
     "y>1 -. x>1", "x>2 -. y>1",
     # A cell that is no knot: no name, and a single arrow to it.
     "x>1 ->2 -.", "x>1 ->2 ->2", "x>1 ->2 -!", "x>1 ->0", "x>1 ->2 ->0", "x>1 ->2 ->1 y!",
-    "abcde.", "a. b. c. d. e.", "a! b! c! d! e!", "x>1 x>0", "x>1\n-.", "x>1 -.\n", "x>1 - .",
+    "abcde.", "a. b. c. d. e.", "a! b! c! d! e!", "x>1 x>0", "x>1 .", "x>1 !", "x>1 >1", "x>1\n-.", "x>1 -.\n", "x>1 - .",
 ]
 
 
@@ -60,10 +60,10 @@ class IsShapeTest(unittest.TestCase, Asking):
                             "a>1 ->1 b>3 ->3 c>5 ->5 d>7 ->7", "x>1 y>0", "x>1 -. y!", "x>1 y.", "x>1 y>2 -."):
             self.assertIs(is_shape(shape), True, shape)
 
-    def test_twelve_knots_and_end(self):
-        row = "a>1 ->2 ->3 -. b>1 c>2"
-        self.assertIs(is_shape(row), True)
-        self.assertIs(is_shape(value=row), True)
+    def test_many_words(self):
+        self.assertIs(is_shape(value="a>1 ->2 ->3 -. b>1 c>2"), True)
+        self.assertIs(is_shape(" ".join(["x."] + ["-!"] * 1000)), False)
+        self.assertIs(is_shape(" ".join(f"->{number}" for number in range(700))), False)
 
     def test_no_shapes(self):
         for value in NO_SHAPES + list(odd_values()) + [ONE, list(ONE), ("x.",), b"x."]:
