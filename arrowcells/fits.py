@@ -1,7 +1,7 @@
 """When a picture fits a store, and when a store keeps a saying."""
 
 from arrowcells.errors import InvalidPlacing
-from arrowcells.kinds import END, is_number, is_place, is_tuple_of
+from arrowcells.kinds import END, is_place, is_tuple_of
 from arrowcells.lengths import Lengths
 from arrowcells.placings import Search, chain_of, items_hold
 from arrowcells.sayings import need_picture, need_shown, saying_tree
@@ -60,10 +60,10 @@ def _cells_placed(store, tree, value):
 
 
 def _looks_placed(value, places, lengths):
-    """Whether a value is a pair of a tuple of so many places and a tuple of so many numbers."""
+    """Whether a value is a pair of a tuple of so many places and a tuple of so many values."""
     if not is_tuple_of(value, 2) or not is_tuple_of(value[0], places) or not is_tuple_of(value[1], lengths):
         return False
-    return all([is_place(place) for place in value[0]]) and all([is_number(many) for many in value[1]])
+    return all([is_place(place) for place in value[0]])
 
 
 def keeps(store, saying):

@@ -1,6 +1,6 @@
 """Lots: finite unions of boxes of plans with the same names."""
 
-from arrowcells.errors import InvalidBoxes, InvalidNames, NotALot, TooMany
+from arrowcells.errors import InvalidBoxes, InvalidNames, NotALot
 from arrowcells.kinds import are_names, is_tuple_of
 from arrowcells.lengths import Lengths
 from arrowcells.plans import need_plan, plan_of
@@ -8,8 +8,6 @@ from arrowcells.sayings import need_shown, saying_tree
 from arrowcells.shapes import knots_in, letters_in, need_knots, shapes, stretches_number
 from arrowcells.spreads import Spread
 from arrowcells.stores import need_store
-
-MOST_TOLD_NAMES = 2
 
 
 class Lot:
@@ -53,25 +51,16 @@ def lot_of(saying, names):
     if not are_names(names):
         raise InvalidNames(names)
     need_shown(tree, names)
-    _need_few(names)
     spread = Spread(tree)
     boxes = []
+    # Too many names are told by shapes.
     for shape in shapes(names):
         boxes.extend([(shape, lengths, lost) for lengths, lost in spread.boxes_of(need_knots(shape))])
     return Lot(names, tuple(boxes))
 
 
-def _need_few(names):
-    """Raises TooMany with the number of names for which no lot is told."""
-    if len(names) > MOST_TOLD_NAMES:
-        raise TooMany(len(names))
-
-
 def every(names):
     """The lot of all plans with these names."""
-    if not are_names(names):
-        raise InvalidNames(names)
-    _need_few(names)
     positive, whole = Lengths("1+"), Lengths("0+")
     boxes = [(shape, (positive,) * stretches_number(need_knots(shape)), whole) for shape in shapes(names)]
     return Lot(names, tuple(boxes))

@@ -7,8 +7,6 @@ from arrowcells.ways import reached_cells
 
 def chain_of(store, first, second, many):
     """The tuple of the cells of the chain of so many cells between two places, None if there is none."""
-    if many > len(store.cells):
-        return None
     cells, place = {}, first
     for _ in range(many):
         if place not in store.arrows or place in cells:
@@ -113,10 +111,8 @@ class Search:
         _, first, second, _ = self.chains[number]
         path = self.path_from(places[first])
         for many, place in self.choices(places, number, path):
-            if used & path.used[many]:
-                continue
             more = {**places, second: place}
-            if second not in places and not items_hold_there(self.store, self.rows, more):
+            if used & path.used[many] or not items_hold_there(self.store, self.rows, more):
                 continue
             answer = self.with_chains(more, {**lengths, number: many}, used | path.used[many])
             if answer is not None:

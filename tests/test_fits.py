@@ -194,6 +194,16 @@ class PlacingTest(unittest.TestCase, Asking):
         self.assertIs(is_placing(TAIL, "chain y y 1 * rest", ((), (2,))), False)
         self.assertIs(is_placing(read_store("x=0 | none"), "chain x END 0+", ((), (0,))), True)
         self.assertIs(is_placing(read_store("x=1 | 1>1"), "some h : chain x h 0+ * rest", ((True,), (0,))), False)
+        # A chain does not go on behind its end, and each item must hold.
+        told = {"chain x y 3 * rest": ((), (3,)), "chain y y 4 * rest": ((), (4,)), "x = y * rest": ((), ()),
+                "x != x * rest": ((), ()), "gone x * rest": ((), ()), "lost 1 3+ * rest": ((), ()),
+                "chain x y 1 * chain y y 2": ((), (1, 2)), "some h : chain x h 1 * h != y * rest": ((2,), (1,)),
+                "some h : chain x h 2 * chain y h 1 * rest": ((7,), (2, 1))}
+        for picture, value in told.items():
+            self.assertIs(is_placing(TAIL, picture, value), False, picture)
+        self.assertIs(is_placing(LISTS, "chain x END 3", ((), (3,))), False)
+        self.assertIs(is_placing(LISTS, "chain x END 0+ * rest", ((), (10 ** 30,))), False)
+        self.assertIs(is_placing(TAIL, "chain y y 0+ * rest", ((), (10 ** 30,))), False)
         self.assertIs(is_placing(value=((), ()), picture="rest", store=TAIL), True)
         for value in odd_values():
             self.assertIs(is_placing(TAIL, "rest", value), False)
