@@ -19,6 +19,7 @@ class Frame:
         self.many = start + step
         self.whole = all_bits(self.many)
         self.positive = self.whole - 1
+        self.empty = 0
         self.known_sums = {}
         self.known_falls = {}
         self.known_lengths = {}
@@ -33,6 +34,18 @@ class Frame:
         if mask not in self.known_lengths:
             self.known_lengths[mask] = made_lengths(settled(self.start, self.step, mask))
         return self.known_lengths[mask]
+
+    def both(self, mask, other):
+        """The mask of the numbers that two masks have in common."""
+        return mask & other
+
+    def without(self, mask, other):
+        """The mask of the numbers of the first mask that are not in the other one."""
+        return mask & ~other
+
+    def joint(self, mask, other):
+        """The mask of the numbers of both masks."""
+        return mask | other
 
     def sums(self, mask, other):
         """The mask of all sums of a number of the one and one of the other mask."""

@@ -26,6 +26,11 @@ def is_letter(value):
     return isinstance(value, str) and len(value) == 1 and value in LETTERS
 
 
+def is_target(value):
+    """Whether a value is a letter or `END`, which may both tell where something leads."""
+    return is_letter(value) or value == "END"
+
+
 def is_ascending(letters):
     """Whether a string consists of unlike letters, ascending; it may be empty."""
     before = ""

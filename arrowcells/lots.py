@@ -1,8 +1,9 @@
 """Lots: finite unions of boxes of plans with the same names."""
 
-from arrowcells.errors import InvalidBoxes, InvalidNames, NotALot
-from arrowcells.kinds import are_names, is_tuple_of
+from arrowcells.errors import InvalidBoxes, NotALot
+from arrowcells.kinds import is_tuple_of
 from arrowcells.lengths import Lengths
+from arrowcells.names import need_few_names, need_names
 from arrowcells.plans import need_plan, plan_of
 from arrowcells.sayings import need_shown, saying_tree
 from arrowcells.shapes import knots_in, letters_in, need_knots, shapes, stretches_number
@@ -14,8 +15,7 @@ class Lot:
     """A lot; it never changes."""
 
     def __init__(self, names, boxes):
-        if not are_names(names):
-            raise InvalidNames(names)
+        need_names(names)
         if not isinstance(boxes, tuple):
             raise InvalidBoxes(None)
         for index, box in enumerate(boxes):
@@ -45,15 +45,25 @@ def need_lot(value):
         raise NotALot(value)
 
 
+def need_told(trees, names):
+    """Raises UnknownName or TooMany, if the lots over names are not told for the sayings with these trees."""
+    for tree in trees:
+        need_shown(tree, names)
+    need_few_names(names)
+
+
 def lot_of(saying, names):
     """The lot of the plans of all stores with these names that keep a saying."""
     tree = saying_tree(saying)
-    if not are_names(names):
-        raise InvalidNames(names)
-    need_shown(tree, names)
+    need_names(names)
+    need_told([tree], names)
+    return lot_of_tree(tree, names)
+
+
+def lot_of_tree(tree, names):
+    """The lot of the saying with this tree, over one or two names that have all its shown letters."""
     spread = Spread(tree)
     boxes = []
-    # Too many names are told by shapes.
     for shape in shapes(names):
         boxes.extend([(shape, lengths, lost) for lengths, lost in spread.boxes_of(need_knots(shape))])
     return Lot(names, tuple(boxes))

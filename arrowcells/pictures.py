@@ -1,6 +1,7 @@
 """Pictures: their items, and the trees of them, as parts of sayings."""
 
-from arrowcells.kinds import is_letter
+from arrowcells.comparisons import comparison_in
+from arrowcells.kinds import is_letter, is_target
 from arrowcells.lengths import words_in
 
 MOST_ITEMS = 8
@@ -41,20 +42,13 @@ def _item(words):
         return ("rest",)
     if len(words) == 2 and words[0] == "gone" and is_letter(words[1]):
         return "gone", words[1]
-    if len(words) == 3 and is_letter(words[0]) and words[1] in ("=", "!=") and _is_target(words[2]):
-        return words[1], words[0], words[2]
     if words[:1] == ["lost"]:
         numbers = " ".join(words[1:])
         return ("lost", numbers) if _is_small(numbers) else None
-    if words[:1] == ["chain"] and len(words) > 3 and is_letter(words[1]) and _is_target(words[2]):
+    if words[:1] == ["chain"] and len(words) > 3 and is_letter(words[1]) and is_target(words[2]):
         numbers = " ".join(words[3:])
         return ("chain", words[1], words[2], numbers) if _is_small(numbers) else None
-    return None
-
-
-def _is_target(word):
-    """Whether a word may stand as the second one of an item."""
-    return word == "END" or is_letter(word)
+    return comparison_in(words)
 
 
 def _is_small(text):

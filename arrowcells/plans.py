@@ -4,7 +4,7 @@ from arrowcells.errors import InvalidLengths, InvalidNumber, InvalidShape, Inval
 from arrowcells.kinds import END, is_tuple_of, is_whole, number_in
 from arrowcells.shapes import knot_words, knots_in, letters_in, shape_text, stretches_number
 from arrowcells.stores import MOST_CELLS, Store, need_store
-from arrowcells.ways import reached_cells
+from arrowcells.ways import reached_from
 
 MOST_LENGTH = 10 ** 30
 
@@ -20,18 +20,22 @@ class Plan:
             raise InvalidLengths(lengths)
         if not is_whole(lost, 0, MOST_LENGTH):
             raise InvalidNumber(lost)
-        self.shape = shape
-        self.lengths = lengths
-        self.lost = lost
-        self.size = sum(lengths) + lost
-        self.letters = letters_in(knots)
-        words = " ".join([str(number) for number in lengths])
-        self.text = f"{shape} | {words or 'none'} | {lost}"
+        self.take(shape, lengths, lost, letters_in(knots))
 
     def __eq__(self, other):
         if not isinstance(other, Plan):
             return False
         return self.shape == other.shape and self.lengths == other.lengths and self.lost == other.lost
+
+    def take(self, shape, lengths, lost, letters):
+        """Sets all attributes; only for the making of a new object."""
+        self.shape = shape
+        self.lengths = lengths
+        self.lost = lost
+        self.size = sum(lengths) + lost
+        self.letters = letters
+        words = " ".join([str(number) for number in lengths])
+        self.text = f"{shape} | {words or 'none'} | {lost}"
 
     def comes_before(self, other):
         """Whether this plan stands before the other one in the order of plans."""
@@ -51,65 +55,78 @@ def need_plan(value):
         raise NotAPlan(value)
 
 
+def made_plan(shape, lengths, lost):
+    """The plan of a shape, lengths and a number of lost cells, however great these are."""
+    made = Plan("x.", (), 0)
+    made.take(shape, lengths, lost, letters_in(knot_words(shape)))
+    return made
+
+
 def plan_of(store):
     """The plan of a store."""
     need_store(store)
-    places = _knot_places(store)
-    stretches = _stretches(store, places)
+    shape, stretches = drawn(store.names, store.arrows)
+    lengths = tuple([len(cells) for cells in stretches])
+    return Plan(shape, lengths, len(store.cells) - sum(lengths))
+
+
+def drawn(names, arrows):
+    """The shape that pairs (letter, place) and arrows have, and the tuple of its stretches."""
+    places = _knot_places(names, arrows)
+    stretches = _stretches(arrows, places)
     numbers = {place: number for number, place in enumerate(places)}
-    names = {place: "" for place in places}
-    for letter, place in store.names:
-        names[place] += letter
+    letters = {place: "" for place in places}
+    for letter, place in names:
+        letters[place] += letter
     lasts = {cells[0]: cells[-1] for cells in stretches}
     knots = []
     for place in places:
         if place in lasts:
-            knots.append((names[place], ">", numbers[store.arrows[lasts[place]]]))
+            knots.append((letters[place], ">", numbers[arrows[lasts[place]]]))
         else:
-            knots.append((names[place], "." if place == END else "!", None))
-    lengths = tuple([len(cells) for cells in stretches])
-    return Plan(shape_text(knots), lengths, len(store.cells) - sum(lengths))
+            knots.append((letters[place], "." if place == END else "!", None))
+    return shape_text(knots), stretches
 
 
 def knots_of(store):
     """The tuple of the places of the knots of a store, in their order."""
     need_store(store)
-    return tuple(_knot_places(store))
+    return tuple(_knot_places(store.names, store.arrows))
 
 
-def _knot_places(store):
+def _knot_places(names, arrows):
     """The list of the places of the knots, in the order in which the ways first come to them."""
-    named = {place: True for _, place in store.names}
+    named = {place: True for _, place in names}
     arrows_to = {}
-    for cell in reached_cells(store):
-        to = store.arrows[cell]
+    for cell in reached_from(names, arrows):
+        to = arrows[cell]
         arrows_to[to] = arrows_to.get(to, 0) + 1
     passed, knots = {}, []
-    for _, start in store.names:
+    for _, start in names:
         place = start
         while place is not None and place not in passed:
             passed[place] = True
-            if place not in store.arrows or place in named or arrows_to.get(place, 0) >= 2:
+            if place not in arrows or place in named or arrows_to.get(place, 0) >= 2:
                 knots.append(place)
-            place = store.arrows.get(place)
+            place = arrows.get(place)
     return knots
 
 
 def stretches_of(store):
     """The tuple of the tuples of the cells of the stretches, in the order of their knots."""
     need_store(store)
-    return _stretches(store, _knot_places(store))
+    return _stretches(store.arrows, _knot_places(store.names, store.arrows))
 
 
-def _stretches(store, knots):
+def _stretches(arrows, knots):
     """The tuple of the stretches that begin at those of the told knots that are cells."""
     is_knot = {place: True for place in knots}
     stretches = []
     for knot in knots:
-        if knot in store.arrows:
+        if knot in arrows:
             cells = [knot]
-            while store.arrows[cells[-1]] not in is_knot:
-                cells.append(store.arrows[cells[-1]])
+            while arrows[cells[-1]] not in is_knot:
+                cells.append(arrows[cells[-1]])
             stretches.append(tuple(cells))
     return tuple(stretches)
 

@@ -1,6 +1,6 @@
 """Regions: sets of rows of numbers, as unions of boxes that are kept in one form.
 
-A mask is a set of numbers as bits, in a form that all masks of a table share. A region over no
+A mask is a set of numbers, in a form that a frame or a field works with. A region over no
 numbers is NOTHING or ALL. A region over more numbers has edges, which are pairs of a mask and the
 region of the rows behind it: the first number of a row lies in the mask of one edge at most.
 Regions are told by their numbers in a table, so that equal regions have equal numbers.
@@ -11,9 +11,10 @@ ALL = 1
 
 
 class Regions:
-    """A table of regions."""
+    """A table of regions, whose masks are those of a frame or a field."""
 
-    def __init__(self):
+    def __init__(self, field):
+        self.field = field
         self.edges = [(), ()]
         self.numbers = {}
         self.known = {}
@@ -22,8 +23,8 @@ class Regions:
         """The region with these edges, whose masks have no number in common."""
         masks = {}
         for mask, behind in edges:
-            if mask and behind != NOTHING:
-                masks[behind] = masks.get(behind, 0) | mask
+            if mask != self.field.empty and behind != NOTHING:
+                masks[behind] = self.field.joint(masks[behind], mask) if behind in masks else mask
         if not masks:
             return NOTHING
         row = tuple([(masks[behind], behind) for behind in sorted(masks)])
@@ -69,22 +70,23 @@ class Regions:
     def joined_edges(self, word, region, other):
         """The edges of the region that a word makes of two regions over at least one number."""
         edges = []
-        taken = 0
+        taken = self.field.empty
         for mask, behind in self.edges[region]:
             left = mask
             for other_mask, other_behind in self.edges[other]:
-                if mask & other_mask:
-                    edges.append((mask & other_mask, self.joined_behind(word, behind, other_behind)))
-                    left = left & ~other_mask
+                both = self.field.both(mask, other_mask)
+                if both != self.field.empty:
+                    edges.append((both, self.made_of(word, behind, other_behind)))
+                    left = self.field.without(left, both)
             if word != "meet":
                 edges.append((left, behind))
-            taken = taken | mask
+            taken = self.field.joint(taken, mask)
         if word == "either":
-            edges.extend([(mask & ~taken, behind) for mask, behind in self.edges[other]])
+            edges.extend([(self.field.without(mask, taken), behind) for mask, behind in self.edges[other]])
         return edges
 
-    def joined_behind(self, word, region, other):
-        """What a word makes of the regions behind two edges."""
+    def made_of(self, word, region, other):
+        """What a word, either, meet or minus, makes of two regions."""
         if word == "either":
             return self.either(region, other)
         return self.meet(region, other) if word == "meet" else self.minus(region, other)

@@ -16,8 +16,11 @@ def all_bits(many):
 
 def repeated(cycle, step, many):
     """The lowest bits, so many, of a cycle of so many bits as step says, again and again."""
-    turns = many // step + 1
-    return cycle * (all_bits(step * turns) // all_bits(step)) & all_bits(many)
+    bits, told = cycle, step
+    while told < many:
+        bits = bits | (bits << told)
+        told = 2 * told
+    return bits & all_bits(many)
 
 
 def bits_below(start, step, bits, many):
@@ -30,9 +33,16 @@ def bits_below(start, step, bits, many):
 def settled(start, step, bits):
     """The triple, with the least step and start, of a set that repeats itself from start on."""
     cycle = bits >> start
-    least = 1
-    while step % least != 0 or cycle != repeated(cycle & all_bits(least), least, step):
-        least += 1
+    least, rest, prime = step, step, 2
+    # All steps that are possible are multiples of the least one, so it is come to prime by prime.
+    while rest > 1:
+        if rest % prime != 0:
+            prime += 1
+            continue
+        rest = rest // prime
+        shorter = least // prime
+        if (cycle ^ (cycle >> shorter)) & all_bits(step - shorter) == 0:
+            least = shorter
     unlike = (bits ^ (bits >> least)) & all_bits(start)
     start = unlike.bit_length()
     return start, least, bits & all_bits(start + least)
@@ -49,6 +59,25 @@ def has_number(rounded, number):
     if number >= start:
         number = start + (number - start) % step
     return bits >> number & 1 == 1
+
+
+def next_number(rounded, number):
+    """The least member above a number from 0 on, None if there is none."""
+    start, step, _ = rounded
+    for more in range(number + 1, max(number, start) + step + 1):
+        if has_number(rounded, more):
+            return more
+    return None
+
+
+def number_alone(number):
+    """The set of a single number."""
+    return number + 1, 1, 1 << number
+
+
+def numbers_from(number):
+    """The set of all numbers from a number on."""
+    return number, 1, 1 << number
 
 
 def side_by_side(rounded, other):
@@ -109,6 +138,17 @@ def parts_of(rounded, other):
     for number in numbers_in(_bits_of(other, highest)):
         total = total | (bits >> number)
     return settled(start, step, total & all_bits(start + step))
+
+
+def falls_of(rounded):
+    """The list of pairs (numbers, what is left over of the set when one of these numbers is taken off)."""
+    start, step, _ = rounded
+    found = {}
+    for number in range(start + step):
+        left = shifted_of(rounded, -number)
+        if left != EMPTY:
+            found[left] = found.get(left, 0) | (1 << number)
+    return [(settled(start, step, found[left]), left) for left in found]
 
 
 def multiplied_of(rounded, by):

@@ -1,8 +1,9 @@
 """Sayings: pictures, joined by not, and, or; their texts and trees."""
 
-from arrowcells.errors import InvalidSaying, UnknownName
+from arrowcells.errors import InvalidSaying
 from arrowcells.kinds import is_tuple_of
 from arrowcells.lengths import words_in
+from arrowcells.names import need_known
 from arrowcells.pictures import lengths_texts, letters_shown, picture_tree
 
 MOST_PICTURES = 6
@@ -32,9 +33,7 @@ def need_picture(picture):
 
 def need_shown(tree, letters):
     """Raises UnknownName with the first letter that a saying shows and that is none of the letters."""
-    for letter in _shown_in(tree):
-        if letter not in letters:
-            raise UnknownName(letter)
+    need_known(_shown_in(tree), letters)
 
 
 def _tree_or_none(value):

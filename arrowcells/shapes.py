@@ -1,7 +1,8 @@
 """Shapes: how knots and stretches hang together, without any lengths."""
 
-from arrowcells.errors import InvalidNames, InvalidShape, TooMany, UnknownName
-from arrowcells.kinds import are_names, is_ascending, is_letter, number_in
+from arrowcells.errors import InvalidShape, UnknownName
+from arrowcells.kinds import END, are_names, is_ascending, is_letter, number_in
+from arrowcells.names import need_few_names, need_names
 
 
 def knots_in(value):
@@ -67,6 +68,12 @@ def _in_order(knots):
     return order
 
 
+def places_in(knots):
+    """The dict of the letters and places of knots; the place of a knot is END, or by one more than its number."""
+    places = [END if sign == "." else number + 1 for number, (_, sign, _) in enumerate(knots)]
+    return {letter: place for (names, _, _), place in zip(knots, places) for letter in names}
+
+
 def shape_text(knots):
     """The shape with these knots, which may stand in any order."""
     order = _in_order(knots)
@@ -93,10 +100,8 @@ def is_shape(value):
 
 def shapes(names):
     """The ascending tuple of all shapes with these one or two names."""
-    if not are_names(names):
-        raise InvalidNames(names)
-    if len(names) > 2:
-        raise TooMany(len(names))
+    need_names(names)
+    need_few_names(names)
     found = [[]]
     for letter in names:
         found = [more for knots in found for more in _with_name(knots, letter)]

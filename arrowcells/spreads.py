@@ -25,7 +25,7 @@ class Spread:
         # Two hidden letters part a stretch into three; each sum of two parts begins to come
         # round within two steps behind the sum of their starts.
         self.frame = Frame(3 * top + 4 * step, step)
-        self.regions = Regions()
+        self.regions = Regions(self.frame)
         self.tree = tree
 
     def boxes_of(self, knots):

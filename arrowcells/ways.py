@@ -38,15 +38,20 @@ def tail_and_ring(store, letter):
     return tail, len(cells) - tail
 
 
-def reached_cells(store):
-    """The dict of the reached cells, in the order in which the ways come to them."""
+def reached_from(names, arrows):
+    """The dict of the cells that pairs (letter, place) reach, in the order in which the ways come to them."""
     cells = {}
-    for _, start in store.names:
+    for _, start in names:
         place = start
-        while place in store.arrows and place not in cells:
+        while place in arrows and place not in cells:
             cells[place] = True
-            place = store.arrows[place]
+            place = arrows[place]
     return cells
+
+
+def reached_cells(store):
+    """The dict of the reached cells of a store."""
+    return reached_from(store.names, store.arrows)
 
 
 def reached(store):

@@ -1,6 +1,9 @@
-"""Sayings that are put together at random, the same ones for the same beginning."""
+"""Sayings, programs and lots that are put together at random, the same ones for the same beginning."""
 
+from arrowcells.lengths import Lengths
+from arrowcells.lots import Lot
 from arrowcells.sayings import is_saying
+from arrowcells.shapes import lengths_number
 
 
 def some_lengths(random, step, high):
@@ -51,3 +54,65 @@ def some_sayings(random, names, many, step=None, high=None):
         text = some_part(random, names, step or random.choice([2, 2, 3, 4]), high or random.choice([2, 2, 3, 5]), 2)
         if is_saying(text):
             yield text
+
+
+def some_test(random, letters):
+    """A test over letters."""
+    parts = []
+    for _ in range(random.choice([1, 1, 1, 2, 2, 3])):
+        words = random.choice(letters), random.choice(["=", "!="]), random.choice(letters + ["END"])
+        parts.append(" ".join(words))
+    return random.choice([" and ", " or "]).join(parts)
+
+
+def some_deed(random, letters):
+    """The text of a deed over letters."""
+    first, second = random.choice(letters), random.choice(letters)
+    end = random.choice(letters + ["END"])
+    return random.choice([f"{first} = {end}", f"{first} = next {second}", f"{first} = next {second}",
+                          f"next {first} = {end}", f"next {first} = {end}", f"{first} = new", f"drop {first}"])
+
+
+def some_program(random, letters, many, depth=2, has_loops=True):
+    """A program over letters, of about so many statements, with braces as deep in one another."""
+    parts = []
+    while many > 0:
+        chance = random.random()
+        if depth == 0 or chance < 0.75:
+            parts.append(some_deed(random, letters))
+            many -= 1
+            continue
+        inner = random.randint(0, many)
+        body = some_program(random, letters, inner, depth - 1, has_loops)
+        text = f"{{ {body} }}"
+        if has_loops and chance > 0.9:
+            parts.append(f"while {some_test(random, letters)} {text}")
+        elif chance > 0.85:
+            other = some_program(random, letters, random.randint(0, many - inner), depth - 1, has_loops)
+            parts.append(f"if {some_test(random, letters)} {text} else {{ {other} }}")
+        else:
+            parts.append(f"if {some_test(random, letters)} {text}")
+        many -= inner + 1
+    return "; ".join(parts) or "none"
+
+
+def some_set(random, has_zero, top=4):
+    """A Lengths that is not empty, with small numbers and steps."""
+    while True:
+        words = []
+        for _ in range(random.choice([1, 1, 2, 3])):
+            behind = random.choice(["", "", "+", "+2", "+3", "+4", "+6"])
+            words.append(f"{random.randint(0 if has_zero else 1, top)}{behind}")
+        told = Lengths(" ".join(words))
+        if has_zero or 0 not in told:
+            return told
+
+
+def some_lot(random, names, shapes, most=4, top=4):
+    """A lot with a few boxes, whose shapes are some of those told."""
+    boxes = []
+    for _ in range(random.randint(0, most)):
+        shape = random.choice(shapes)
+        sets = [some_set(random, False, top) for _ in range(lengths_number(shape))]
+        boxes.append((shape, tuple(sets), some_set(random, True, 2)))
+    return Lot(names, tuple(boxes))

@@ -156,3 +156,35 @@ def some_stores(random, names, many):
         leads = [(letter, random.choice(places + [0, random.randint(0, 9)])) for letter in names]
         cells = [(place, random.choice(places + [0, random.randint(0, 9)])) for place in sorted(places)]
         yield Store(tuple(leads), tuple(cells))
+
+
+def parted(total, many):
+    """All tuples of so many numbers from 1 on whose sum is not above the total."""
+    if many == 0:
+        return [()]
+    return [(first,) + rest for first in range(1, total + 1) for rest in parted(total - first, many - 1)]
+
+
+def place_of_plan(plan):
+    """What tells the place of a plan in the order of [13]."""
+    return plan.size, plan.shape, plan.lengths, plan.lost
+
+
+def plans_up_to(names, size, told=None):
+    """The ordered list of all plans with these names, of the told shapes, up to a size."""
+    found = []
+    for shape in told or shapes(names):
+        for lengths in parted(size, lengths_number(shape)):
+            found.extend(Plan(shape, lengths, lost) for lost in range(size - sum(lengths) + 1))
+    return sorted(found, key=place_of_plan)
+
+
+def box(shape, *texts):
+    """The box of a shape with the sets of the lengths texts, the last one for the lost cells."""
+    sets = [Lengths(text) for text in texts]
+    return shape, tuple(sets[:-1]), sets[-1]
+
+
+def box_texts(lot):
+    """The sorted list of texts for the boxes of a lot."""
+    return sorted(f"{shape} | {' , '.join(told.text for told in lengths)} | {lost.text}" for shape, lengths, lost in lot.boxes)

@@ -8,7 +8,8 @@ import unittest
 
 ROOT = os.path.dirname(os.path.dirname(os.path.abspath(__file__)))
 PACKAGE = os.path.join(ROOT, "arrowcells")
-LIBRARY = {"math": {"gcd", "lcm", "isqrt", "comb", "perm", "factorial"}}
+LIBRARY = {"math": {"gcd", "lcm", "isqrt", "comb", "perm", "factorial"},
+           "heapq": {"heappush", "heappop", "heapify", "heapreplace", "heappushpop"}}
 BUILTINS = set("len range enumerate zip min max sum abs sorted reversed int str bool list tuple dict set isinstance"
                " ord repr any all divmod ValueError".split())
 METHODS = set("append clear copy count endswith extend find get index insert isalnum isalpha isdigit islower isspace"
@@ -37,6 +38,17 @@ INTERFACE = {
     "sayings": "is_saying saying_tree saying_text shown_letters",
     "fits": "placing is_placing chain_cells keeps",
     "lots": "Lot lot_of every has_plan has_store",
+    "lotsums": "either meet minus passing",
+    "inside": "is_empty lies_inside is_same least_plan parting_plan shapes_in follows parting_store",
+    "listed": "plans_number plans_of_size plan_at",
+    "programs": "is_program is_test program_tree test_tree program_text program_letters deeds_of has_loop is_plain"
+                " statements_number is_deed",
+    "runs": "Run run done holds",
+    "planruns": "PlanRun plan_run plan_done plan_holds",
+    "images": "image failing",
+    "ahead": "ahead weakest",
+    "broken": "broken is_kept leaking",
+    "differ": "leave_same differing",
 }
 
 
