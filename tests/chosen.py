@@ -2,8 +2,11 @@
 
 from arrowcells.lengths import Lengths
 from arrowcells.lots import Lot
+from arrowcells.plans import plan_of
+from arrowcells.programs import is_program
 from arrowcells.sayings import is_saying
-from arrowcells.shapes import lengths_number
+from arrowcells.shapes import lengths_number, shapes
+from tests.helpers import some_stores
 
 
 def some_lengths(random, step, high):
@@ -108,11 +111,43 @@ def some_set(random, has_zero, top=4):
             return told
 
 
-def some_lot(random, names, shapes, most=4, top=4):
+def some_lot(random, names, told, most=4, top=4):
     """A lot with a few boxes, whose shapes are some of those told."""
     boxes = []
     for _ in range(random.randint(0, most)):
-        shape = random.choice(shapes)
+        shape = random.choice(told)
         sets = [some_set(random, False, top) for _ in range(lengths_number(shape))]
         boxes.append((shape, tuple(sets), some_set(random, True, 2)))
     return Lot(names, tuple(boxes))
+
+
+def some_shapes(random, names):
+    """The list of all shapes with one or two names, or of some with more names."""
+    if len(names) < 3:
+        return list(shapes(names))
+    return sorted({plan_of(store).shape for store in some_stores(random, names, 600)})
+
+
+def some_straight(random, names, most=9):
+    """A program without loops over names and perhaps helpers, at most four letters together."""
+    while True:
+        helpers = [letter for letter in "tuab" if letter not in names]
+        letters = list(names) + helpers[:random.randint(0, 4 - len(names))]
+        text = some_program(random, letters, random.randint(0, most), 2, False)
+        if is_program(text):
+            return text
+
+
+def some_change(random, text, names):
+    """A program that is like a program without loops but for one statement, or None."""
+    parts = text.split("; ")
+    at = random.randrange(len(parts))
+    chance = random.random()
+    if chance < 0.4:
+        parts.insert(at, some_deed(random, list(names)))
+    elif chance < 0.7:
+        parts[at] = some_deed(random, list(names))
+    else:
+        parts[at - 1], parts[at] = parts[at], parts[at - 1]
+    changed = "; ".join(parts)
+    return changed if is_program(changed) else None

@@ -173,7 +173,7 @@ def place_of_plan(plan):
 def plans_up_to(names, size, told=None):
     """The ordered list of all plans with these names, of the told shapes, up to a size."""
     found = []
-    for shape in told or shapes(names):
+    for shape in shapes(names) if told is None else told:
         for lengths in parted(size, lengths_number(shape)):
             found.extend(Plan(shape, lengths, lost) for lost in range(size - sum(lengths) + 1))
     return sorted(found, key=place_of_plan)

@@ -3,10 +3,20 @@
 import unittest
 
 from arrowcells import errors
+from arrowcells.broken import broken, is_kept, leaking
+from arrowcells.ahead import weakest
+from arrowcells.differ import differing, leave_same
 from arrowcells.fits import chain_cells, keeps, placing
+from arrowcells.images import failing, image
+from arrowcells.inside import follows, is_same, least_plan, parting_store, shapes_in
 from arrowcells.lengths import Lengths
+from arrowcells.listed import plan_at, plans_number, plans_of_size
 from arrowcells.lots import Lot, every, has_plan, lot_of
+from arrowcells.lotsums import either, meet, minus, passing
+from arrowcells.planruns import plan_run
 from arrowcells.plans import Plan, knots_of, plan_of, store_of, stretches_of
+from arrowcells.programs import deeds_of, program_tree
+from arrowcells.runs import done, run
 from arrowcells.sayings import saying_text, saying_tree, shown_letters
 from arrowcells.shapes import knot_words, shapes, stretches_on_way
 from arrowcells.stores import Store, read_store
@@ -67,15 +77,56 @@ class ExamplesTest(unittest.TestCase):
         self.assertEqual(caught.exception.given, 'z')
 
     def test_lots(self):
-        rings = lot_of("some h : chain x h 0+ * chain h h 1+", "x")
-        self.assertIs(has_plan(rings, Plan("x>1 ->1", (10 ** 30, 1), 0)), True)
-        self.assertEqual(Lot("x", ()).boxes, ())
-        # What the examples of later files tell of the same lots.
+        lists, rings = lot_of("chain x END 0+", "x"), lot_of("some h : chain x h 0+ * chain h h 1+", "x")
+        self.assertEqual(
+            [shapes_in(lists), shapes_in(rings), plans_number(lists, 4), plans_number(rings, 4), plans_number(every("x"), 1),
+             plans_of_size(rings, 2)[0].text, plans_of_size(rings, 2)[1].text],
+            [('x.', 'x>1 -.'), ('x>0', 'x>1 ->1'), 1, 4, 5, 'x>0 | 2 | 0', 'x>1 ->1 | 1 1 | 0'])
+        self.assertEqual(
+            [least_plan(minus(every("x"), either(lists, rings))).text, is_same(meet(lists, rings), Lot("x", ())),
+             has_plan(rings, Plan("x>1 ->1", (10 ** 30, 1), 0)), plan_at(lists, 3).text],
+            ['x! | none | 0', True, True, 'x>1 -. | 3 | 0'])
+        self.assertEqual(
+            [follows("chain x END 2+2", "chain x END 0+2", "x"), parting_store("chain x END 0+2", "chain x END 2+2", "x").text,
+             parting_store("chain x y 1+ * rest", "x != y * rest", "xy").text],
+            [True, 'x=0 | none', 'x=1 y=1 | 1>1'])
+        same = plans_of_size(passing(every("xy"), "x = y and x != END"), 1)
+        self.assertEqual([len(same), same[0].text, same[1].text, same[2].text, same[3].text],
+                         [4, 'xy! | none | 1', 'xy>0 | 1 | 0', 'xy>1 -! | 1 | 0', 'xy>1 -. | 1 | 0'])
+
+    def test_programs_and_runs(self):
+        turn = "while x != END { t = next x; next x = y; y = x; x = t }"
+        self.assertEqual(program_tree("if x = y or x = END { drop x }"),
+                         (('if', ('or', (('=', 'x', 'y'), ('=', 'x', 'END'))), (('drop', 'x'),), ()),))
+        three = read_store("x=1 y=0 | 1>2 2>3 3>0")
+        r = run(turn, three, 400)
+        self.assertEqual(
+            [r.word, r.store.text, r.steps, r.reads, r.writes, r.asks, r.sets, deeds_of(turn)[0]],
+            ['done', 'x=0 y=3 | 1>0 2>1 3>2', 16, (1, 2, 3), (1, 2, 3), 'xy', 'xy', ('next', 't', 'x')])
+        self.assertEqual(
+            [run(turn, three, 5).word, run(turn, three, 5).store.text, run("drop x; x = next x", three, 9).deed,
+             done(three, ("new", "y")).text],
+            ['long', 'x=2 y=1 | 1>0 2>3 3>0', 1, 'x=1 y=4 | 1>2 2>3 3>0 4>0'])
+        q = plan_run(turn, Plan("x>1 ->1 y.", (1, 2), 0), 400)
+        self.assertEqual([q.word, q.plan.text, q.steps], ['done', 'x. y>2 ->2 | 1 2 | 0', 26])
+
+    def test_what_programs_do_to_lots(self):
         lists = lot_of("chain x END 0+", "x")
-        self.assertEqual(sorted({shape for shape, _, _ in lists.boxes}), ['x.', 'x>1 -.'])
-        self.assertEqual(sorted({shape for shape, _, _ in rings.boxes}), ['x>0', 'x>1 ->1'])
-        self.assertEqual([has_plan(every("x"), Plan("x>1 -.", (3,), 0)), has_plan(rings, Plan("x>1 -.", (3,), 0))],
-                         [True, False])
+        pop = "t = next x; drop x; x = t"
+        self.assertEqual(
+            [plans_number(image(lists, pop), 0), plans_of_size(image(lists, pop), 0)[0].text, plans_number(image(lists, pop), 2),
+             plans_of_size(image(lists, pop), 2)[0].text],
+            [1, 'x. | none | 0', 1, 'x>1 -. | 2 | 0'])
+        self.assertEqual(
+            [least_plan(failing(lists, pop)).text, is_kept("x", "chain x END 3+2", pop, "chain x END 2+2"),
+             broken(lists, pop, lists).text, least_plan(weakest(pop, "chain x END 2", "x")).text],
+            ['x. | none | 0', True, 'x. | none | 0', 'x>1 -. | 3 | 0'])
+        self.assertIs(is_same(weakest(pop, "chain x END 2", "x"), lot_of("chain x END 3", "x")), True)
+        self.assertEqual(
+            [leaking(lists, "x = next x").text, leaking(lists, pop),
+             differing("x = next x; x = next x", "t = next x; x = next t", lists), differing("y = next x", "y = x", every("xy")).text],
+            ['x>1 -. | 1 | 0', None, None, 'x! y! | none | 0'])
+        self.assertIs(leave_same("x = next x; x = next x", "t = next x; x = next t", read_store("x=1 | 1>2 2>0")), True)
 
 
 if __name__ == "__main__":
