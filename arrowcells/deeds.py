@@ -38,8 +38,6 @@ def does_hold(test, places):
 
 def letters_asked(deed):
     """The list of the letters that a deed asks."""
-    if deed[0] == "new":
-        return []
     words = deed[1:] if deed[0] in ("tie", "drop") else deed[2:]
     return [word for word in words if word != "END"]
 

@@ -34,36 +34,27 @@ def differing(program, other, lot):
     need_lot(lot)
     for tree in trees:
         need_few_letters(lot.names, tree)
-    blocks, pairs, firsts = Blocks(), [], []
+    blocks, courses, firsts = Blocks(), [], []
     for shape, own in blocks_in(lot).items():
-        for course, other_course in _pairs(trees, shape):
-            rows = [least_row(block) for block in blocks.meetings(other_course.limits, own)]
+        for course in _common_courses(trees, shape):
+            rows = [least_row(block) for block in blocks.meetings(course.limits, own)]
             if rows:
                 size, row = min([(sum(row), row) for row in rows])
-                firsts.append((size, shape, row, len(pairs)))
-                pairs.append((course, other_course))
+                firsts.append((size, shape, row, len(courses)))
+                courses.append(course)
     for _, shape, row, number in sorted(firsts):
-        if not _leave_same(trees, shape, pairs[number]):
+        # No run comes to the end of a piece whose length is not settled, so the shortest one tells for all.
+        store = store_of(Plan(shape, tuple([low for low, _ in courses[number].bounds]), 0))
+        if _left(trees[0], store) != _left(trees[1], store):
             return plan_with(shape, row)
     return None
 
 
-def _pairs(trees, shape):
-    """The list of pairs of courses of both programs on a shape, the second one within the bounds of the first one."""
+def _common_courses(trees, shape):
+    """The list of the courses of the second program on a shape, within the bounds of each course of the first one."""
     codes = [Code(tree) for tree in trees]
     letters = [letters_of_tree(tree) for tree in trees]
     found = []
     for course in courses_of(codes[0], shape, letters[0], first_bounds(shape)):
-        others = courses_of(codes[1], shape, letters[1], course.bounds)
-        found.extend([(course, other) for other in others])
+        found.extend(courses_of(codes[1], shape, letters[1], course.bounds))
     return found
-
-
-def _leave_same(trees, shape, pair):
-    """Whether two programs leave the same behind all stores within the bounds of a pair of their courses."""
-    course, other_course = pair
-    if course.word == "fault" or other_course.word == "fault":
-        return course.word == other_course.word
-    # No run comes to the end of a piece whose length is not settled, so the shortest one tells for all.
-    store = store_of(Plan(shape, tuple([low for low, _ in other_course.bounds]), 0))
-    return _left(trees[0], store) == _left(trees[1], store)

@@ -186,5 +186,9 @@ def box(shape, *texts):
 
 
 def box_texts(lot):
-    """The sorted list of texts for the boxes of a lot."""
+    """The sorted list of texts for the boxes of a lot, whose sets are told in the least way."""
+    for _, lengths, lost in lot.boxes:
+        for told in lengths + (lost,):
+            same = Lengths(told.text)
+            assert (same, same.start, same.step) == (told, told.start, told.step), told.text
     return sorted(f"{shape} | {' , '.join(told.text for told in lengths)} | {lost.text}" for shape, lengths, lost in lot.boxes)

@@ -76,6 +76,7 @@ class ListedTest(unittest.TestCase, Asking):
         self.asks("TooMany", 406, plans_of_size, lot, 40)
         lot = Lot("x", tuple(one for one in lot.boxes if one[2].text not in ("35", "37")))
         self.assertEqual((plans_number(lot, 40), len(plans_of_size(lot, 40))), (400, 400))
+        self.asks("TooMany", 401, plans_of_size, Lot("x", lot.boxes + (box("x!", "40"),)), 40)
 
     def test_plan_at(self):
         self.assertEqual([plan_at(every("x"), index).text for index in range(7)],
@@ -108,6 +109,7 @@ class ListedTest(unittest.TestCase, Asking):
             for value in list(odd_values()) + [-1, high + 1, "3", (3,)]:
                 self.asks(name, value, action, LOT, value)
             self.assertIsNotNone(action(every("x"), 0))
+            self.asks(name, high + 1, action, every("x"), high + 1)
         self.assertEqual(plans_of_size(Lot("x", (box("x.", "40"),)), 40)[0].text, "x. | none | 40")
 
 

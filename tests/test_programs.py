@@ -43,6 +43,7 @@ NO_PROGRAMS = [
     "x = drop y", "drop", "drop END", "drop x y", "new x", "x = new y", "xx = y", "x == y", "x != y", "x := y",
     "if x = y", "if x = y { }", "if x = y { x = y", "if x = y x = y }", "if { x = y }", "if x = y { x = y } }",
     "if x = y {x = y}", "if x = y { x = y }; else { x = y }", "if x = y { x = y } else x = y", "else { x = y }",
+    "if x = y { none } else x none }", "if x = y { none } else ( none }",
     "if x = y { x = y } else { x = y } else { x = y }", "if x = y { x = y } else { }", "while x = y { x = y } else { none }",
     "while { none }", "while x = y", "while x = y { x = y;}", "while x = y { x = y }}", "if x = y and { none }",
     "if x = y and y = z or z = x { none }", "if x = y or y = z or z = x or x = x { none }", "if x { none }",
