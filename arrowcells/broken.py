@@ -18,6 +18,11 @@ def broken(before, program, after):
     need_lot(after)
     need_same_names(before.names, after.names)
     need_few_letters(before.names, tree)
+    return least_broken(before, tree, after)
+
+
+def least_broken(before, tree, after):
+    """Like broken, for the tree of a program, behind all errors."""
     return least_without(before, lot_before(tree, after, shapes_in(before)))
 
 
@@ -29,13 +34,16 @@ def is_kept(names, saying, program, other):
     after = saying_tree(other)
     need_told([before, after], names)
     need_few_letters(names, tree)
-    lot = lot_of_tree(before, names)
-    return least_without(lot, lot_before(tree, lot_of_tree(after, names), shapes_in(lot))) is None
+    return least_broken(lot_of_tree(before, names), tree, lot_of_tree(after, names)) is None
 
 
 def leaking(lot, program):
     """The least plan of a lot for which a program does not fail and loses cells, None if there is none."""
-    tree = need_lot_and_program(lot, program)
+    return least_leaking(lot, need_lot_and_program(lot, program))
+
+
+def least_leaking(lot, tree):
+    """Like leaking, for the tree of a program, behind all errors."""
     blocks, own, found = Blocks(), blocks_in(lot), {}
     for shape, course in courses_on(tree, own):
         if course.does_leak():

@@ -47,12 +47,21 @@ def walked(code, heap, most):
         if steps == most:
             return "long", steps, None
         row = code.rows[at]
-        if row[0] == "ask":
-            at = row[2] if heap.asked(row[1]) else row[3]
-        else:
-            if not heap.can(row[1]):
-                return "fault", steps, row[2]
-            heap.act(row[1])
-            at = row[3]
+        if not can_do(row, heap):
+            return "fault", steps, row[2]
+        at = do_row(row, heap)
         steps += 1
     return "done", steps, None
+
+
+def can_do(row, heap):
+    """Whether a row does not fail on a heap."""
+    return row[0] == "ask" or heap.can(row[1])
+
+
+def do_row(row, heap):
+    """Does a row that does not fail, and tells the number of the row that comes next."""
+    if row[0] == "ask":
+        return row[2] if heap.asked(row[1]) else row[3]
+    heap.act(row[1])
+    return row[3]

@@ -29,6 +29,15 @@ class Course:
         """Whether more cells are lost behind the run than before it."""
         return self.word == "done" and self.sums_behind[-1] != (0, (len(self.bounds),))
 
+    def meets(self, lows):
+        """Whether some rows that are not below the lows lie within the bounds."""
+        return all([lows[number] <= low for number, (low, is_settled) in enumerate(self.bounds) if is_settled])
+
+    def lows_behind(self, lows):
+        """The least numbers to which the run leads the rows within the bounds that are not below the lows."""
+        firsts = [max(low, bound) for low, (bound, _) in zip(lows, self.bounds)] + [lows[-1]]
+        return tuple([number + sum([firsts[unknown] for unknown in unknowns]) for number, unknowns in self.sums_behind])
+
     def block_behind(self, field, block):
         """The block to which the run leads a block that lies within the bounds."""
         return tuple([field.sums(tuple([block[unknown] for unknown in unknowns]), number)

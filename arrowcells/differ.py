@@ -18,10 +18,10 @@ def leave_same(program, other, store):
     for tree in trees:
         need_few_letters(store.letters, tree)
         need_few_cells(store)
-    return _left(trees[0], store) == _left(trees[1], store)
+    return left_behind(trees[0], store) == left_behind(trees[1], store)
 
 
-def _left(tree, store):
+def left_behind(tree, store):
     """What a program with this tree leaves behind a store, None if it fails."""
     heap = Heap(store, letters_of_tree(tree))
     word, _, _ = walked(Code(tree), heap, MOST_STEPS)
@@ -34,6 +34,11 @@ def differing(program, other, lot):
     need_lot(lot)
     for tree in trees:
         need_few_letters(lot.names, tree)
+    return least_differing(trees, lot)
+
+
+def least_differing(trees, lot):
+    """Like differing, for the trees of two programs, behind all errors."""
     blocks, courses, firsts = Blocks(), [], []
     for shape, own in blocks_in(lot).items():
         for course in _common_courses(trees, shape):
@@ -45,7 +50,7 @@ def differing(program, other, lot):
     for _, shape, row, number in sorted(firsts):
         # No run comes to the end of a piece whose length is not settled, so the shortest one tells for all.
         store = store_of(Plan(shape, tuple([low for low, _ in courses[number].bounds]), 0))
-        if _left(trees[0], store) != _left(trees[1], store):
+        if left_behind(trees[0], store) != left_behind(trees[1], store):
             return plan_with(shape, row)
     return None
 

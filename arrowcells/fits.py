@@ -10,7 +10,7 @@ from arrowcells.stores import need_store
 
 def placing(store, picture):
     """Any pair of places and lengths with which a picture fits a store, None if it does not fit."""
-    return _found(store, _checked(store, picture))
+    return found_placing(store, _checked(store, picture))
 
 
 def _checked(store, picture):
@@ -21,25 +21,25 @@ def _checked(store, picture):
     return tree
 
 
-def _found(store, tree):
+def found_placing(store, tree):
     """Any placing of the picture with this tree, None if it does not fit."""
     return Search(store, tree).found()
 
 
 def is_placing(store, picture, value):
     """Whether a value, whatever it is, is a placing with which a picture fits a store."""
-    return _cells_placed(store, _checked(store, picture), value) is not None
+    return cells_placed(store, _checked(store, picture), value) is not None
 
 
 def chain_cells(store, picture, value):
     """The tuple of the tuples of the cells of the chains, for a placing of the picture."""
-    cells = _cells_placed(store, _checked(store, picture), value)
+    cells = cells_placed(store, _checked(store, picture), value)
     if cells is None:
         raise InvalidPlacing(value)
     return cells
 
 
-def _cells_placed(store, tree, value):
+def cells_placed(store, tree, value):
     """The cells of the chains for a value, None if it is no placing of the picture with this tree."""
     _, hidden, items = tree
     chains = [item for item in items if item[0] == "chain"]
@@ -71,17 +71,17 @@ def keeps(store, saying):
     need_store(store)
     tree = saying_tree(saying)
     need_shown(tree, store.letters)
-    return _is_kept(store, tree)
+    return keeps_tree(store, tree)
 
 
-def _is_kept(store, tree):
+def keeps_tree(store, tree):
     """Whether a store keeps the saying with this tree."""
     if tree[0] == "picture":
-        return _found(store, tree) is not None
+        return found_placing(store, tree) is not None
     if tree[0] == "not":
-        return not _is_kept(store, tree[1])
+        return not keeps_tree(store, tree[1])
     wanted = tree[0] == "or"
     for part in tree[1]:
-        if _is_kept(store, part) == wanted:
+        if keeps_tree(store, part) == wanted:
             return wanted
     return not wanted

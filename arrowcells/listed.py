@@ -16,10 +16,14 @@ MOST_INDEX = 400
 
 
 class Census:
-    """The rows of the plans of a lot that have no number above a size."""
+    """The rows of the plans of a lot that have no number above a size.
 
-    def __init__(self, lot, size):
+    A row counts as often as the weight with the index of its number of lost cells tells.
+    """
+
+    def __init__(self, lot, size, weights):
         self.size = size
+        self.weights = weights
         self.frame = Frame(size, 1)
         self.regions = Regions(self.frame)
         self.tops = {}
@@ -30,11 +34,11 @@ class Census:
             self.tops[shape] = region_of(self.regions, masks)
 
     def total(self):
-        """How many rows there are of this size."""
+        """How often all rows of this size count."""
         return sum([self.counts(region)[self.size] for region in self.tops.values()])
 
     def counts(self, region):
-        """The list of how many rows of a region there are of each size."""
+        """The list of how often the rows of a region count, for each size."""
         if region not in self.known:
             totals = [0] * (self.size + 1)
             if region == ALL:
@@ -42,20 +46,36 @@ class Census:
             for mask, behind in self.regions.edges[region]:
                 more = self.counts(behind)
                 for number in numbers_in(mask):
-                    told = [total + count for total, count in zip(totals[number:], more)]
+                    weight = self.weight_of(number, behind)
+                    told = [total + weight * count for total, count in zip(totals[number:], more)]
                     totals = totals[:number] + told
             self.known[region] = totals
         return self.known[region]
+
+    def weight_of(self, number, behind):
+        """How often a number counts that has a region behind it: the last number of a row is that of the lost cells."""
+        return self.weights[number] if behind == ALL else 1
+
+    def firsts_of(self, region, size):
+        """The ascending list of triples: a first number, the region behind it, and how often these rows count."""
+        found = []
+        for mask, behind in self.regions.edges[region]:
+            for number in numbers_in(mask):
+                if number <= size:
+                    found.append((number, behind, self.weight_of(number, behind) * self.counts(behind)[size - number]))
+        return sorted(found)
 
     def rows_in(self, region, size):
         """The ascending list of the rows of a region that have this size."""
         if region == ALL:
             return [()]
-        firsts = []
-        for mask, behind in self.regions.edges[region]:
-            firsts.extend([(number, behind) for number in numbers_in(mask)
-                           if number <= size and self.counts(behind)[size - number]])
-        return [(number,) + row for number, behind in sorted(firsts) for row in self.rows_in(behind, size - number)]
+        return [(number,) + row for number, behind, many in self.firsts_of(region, size) if many
+                for row in self.rows_in(behind, size - number)]
+
+
+def census_of(lot, size):
+    """The census in which each plan counts once."""
+    return Census(lot, size, [1] * (size + 1))
 
 
 def plans_number(lot, size):
@@ -63,7 +83,7 @@ def plans_number(lot, size):
     need_lot(lot)
     if not is_whole(size, 0, MOST_SIZE):
         raise InvalidNumber(size)
-    return Census(lot, size).total()
+    return census_of(lot, size).total()
 
 
 def plans_of_size(lot, size):
@@ -71,7 +91,7 @@ def plans_of_size(lot, size):
     need_lot(lot)
     if not is_whole(size, 0, MOST_LISTED_SIZE):
         raise InvalidNumber(size)
-    census = Census(lot, size)
+    census = census_of(lot, size)
     many = census.total()
     if many > MOST_LISTED:
         raise TooMany(many)

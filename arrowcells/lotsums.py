@@ -4,8 +4,7 @@ from arrowcells.blocks import Blocks, blocks_in
 from arrowcells.deeds import does_hold
 from arrowcells.errors import OtherNames
 from arrowcells.lots import Lot, need_lot
-from arrowcells.names import need_known
-from arrowcells.programs import letters_tested, test_tree
+from arrowcells.programs import need_test
 from arrowcells.shapes import knot_words, places_in
 
 
@@ -55,7 +54,10 @@ def minus(lot, other):
 def passing(lot, test):
     """The lot of the plans of a lot for which a test holds."""
     need_lot(lot)
-    tree = test_tree(test)
-    need_known(letters_tested(tree), lot.names)
-    boxes = [box for box in lot.boxes if does_hold(tree, places_in(knot_words(box[0])))]
+    return lot_where(lot, need_test(test, lot.names), True)
+
+
+def lot_where(lot, tree, is_held):
+    """The lot of the plans of a lot for which the test with this tree holds, or for which it does not."""
+    boxes = [box for box in lot.boxes if does_hold(tree, places_in(knot_words(box[0]))) == is_held]
     return Lot(lot.names, tuple(boxes))

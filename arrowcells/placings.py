@@ -90,15 +90,20 @@ class Search:
 
     def found(self):
         """Any placing, None if there is none."""
-        places = {**self.store.places, "END": END}
-        for letter in self.hidden:
-            places.pop(letter, None)
         # Chains have reached cells alone, so a lost cell needs a rest.
         if not self.has_rest and len(reached_cells(self.store)) < len(self.store.cells):
             return None
+        places = self.first_places()
         if not items_hold(self.store, self.rows, places):
             return None
         return self.with_chains(places, {}, 0)
+
+    def first_places(self):
+        """The dict of the places of the letters that are shown, and of END."""
+        places = {**self.store.places, "END": END}
+        for letter in self.hidden:
+            places.pop(letter, None)
+        return places
 
     def with_chains(self, places, lengths, used):
         """Any placing that goes on from places, lengths of some chains, and the bits of their cells."""
@@ -107,17 +112,33 @@ class Search:
                 return None
             told = [lengths[number] for number in range(len(self.chains))]
             return tuple([places[letter] for letter in self.hidden]), tuple(told)
-        number = self.next_chain(places, lengths)
-        _, first, second, _ = self.chains[number]
-        path = self.path_from(places[first])
-        for many, place in self.choices(places, number, path):
-            more = {**places, second: place}
-            if used & path.used[many] or not items_hold_there(self.store, self.rows, more):
-                continue
-            answer = self.with_chains(more, {**lengths, number: many}, used | path.used[many])
+        for more_places, more_lengths, more_used in self.steps_from(places, lengths, used):
+            answer = self.with_chains(more_places, more_lengths, more_used)
             if answer is not None:
                 return answer
         return None
+
+    def steps_from(self, places, lengths, used):
+        """The list of all triples of places, lengths and bits in which one chain more is placed."""
+        number = self.next_chain(places, lengths)
+        _, first, second, _ = self.chains[number]
+        path = self.path_from(places[first])
+        found = []
+        for many, place in self.choices(places, number, path):
+            more = {**places, second: place}
+            if used & path.used[many] == 0 and items_hold_there(self.store, self.rows, more):
+                found.append((more, {**lengths, number: many}, used | path.used[many]))
+        return found
+
+    def all_used(self):
+        """The dict of the bits of the cells of all placings with which the picture fits, as if a rest stood in it."""
+        first = self.first_places()
+        if not items_hold(self.store, self.rows, first):
+            return {}
+        steps = [(first, {}, 0)]
+        for _ in self.chains:
+            steps = [step for places, lengths, used in steps for step in self.steps_from(places, lengths, used)]
+        return {bits: True for _, _, bits in steps}
 
     def next_chain(self, places, lengths):
         """The number of a chain that is still to be placed and whose first letter has a place."""

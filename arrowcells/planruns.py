@@ -17,14 +17,19 @@ class PlanRun:
     def __init__(self, plan, tree, most):
         sketch = sketch_of(plan, letters_of_tree(tree))
         self.word, self.steps, self.deed = walked(Code(tree), sketch, most)
-        shape, sums = sketch.told(plan.letters)
-        numbers = [number for number, _ in sums]
-        self.plan = made_plan(shape, tuple(numbers[:-1]), plan.lost + numbers[-1])
+        self.plan = plan_in(sketch, plan.letters, plan.lost)
 
 
 def sketch_of(plan, letters):
     """The sketch of a plan, where more letters lead to END."""
     return sketched(knot_words(plan.shape), [(length, None) for length in plan.lengths], letters, [])
+
+
+def plan_in(sketch, letters, lost):
+    """The plan of a sketch for the names with these letters, where so many cells more are lost."""
+    shape, sums = sketch.told(letters)
+    numbers = [number for number, _ in sums]
+    return made_plan(shape, tuple(numbers[:-1]), lost + numbers[-1])
 
 
 def plan_run(program, plan, most):

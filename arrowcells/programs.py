@@ -3,6 +3,7 @@
 from arrowcells.comparisons import comparison_in
 from arrowcells.errors import HasLoop, InvalidDeed, InvalidProgram, InvalidTest, TooMany
 from arrowcells.kinds import is_letter, is_target, is_tuple_of
+from arrowcells.names import need_known
 
 MOST_STATEMENTS = 30
 MOST_BRACES = 4
@@ -12,12 +13,12 @@ MOST_LETTERS = 4
 
 def is_program(value):
     """Whether a value, whatever it is, is a program."""
-    return _tree_or_none(value) is not None
+    return program_or_none(value) is not None
 
 
 def is_test(value):
     """Whether a value, whatever it is, is a test."""
-    return _test_or_none(value) is not None
+    return test_or_none(value) is not None
 
 
 def is_deed(value):
@@ -33,7 +34,7 @@ def is_deed(value):
 
 def program_tree(program):
     """The tree of a program: the tuple of its statements."""
-    tree = _tree_or_none(program)
+    tree = program_or_none(program)
     if tree is None:
         raise InvalidProgram(program)
     return tree
@@ -41,24 +42,24 @@ def program_tree(program):
 
 def test_tree(test):
     """The tree of a test: `and` or `or`, and the tuple of its comparisons."""
-    tree = _test_or_none(test)
+    tree = test_or_none(test)
     if tree is None:
         raise InvalidTest(test)
     return tree
 
 
-def _tree_or_none(value):
+def program_or_none(value):
     """The tree of a program, None for what is no program."""
     if not isinstance(value, str):
         return None
     words = _words_in(value)
     found = _read(words, 0, 0)
-    if found is None or found[1] != len(words) or _statements_in(found[0]) > MOST_STATEMENTS:
+    if found is None or found[1] != len(words) or statements_in(found[0]) > MOST_STATEMENTS:
         return None
     return found[0]
 
 
-def _test_or_none(value):
+def test_or_none(value):
     """The tree of a test, None for what is no test."""
     return _test_in(value.split(" ")) if isinstance(value, str) else None
 
@@ -160,7 +161,7 @@ def program_text(tree):
     """The program with this tree, without `else { none }`."""
     text = _text(tree)
     # The text of what only looks like a tree leads to another tree, or to none.
-    if text is None or _tree_or_none(text) != tree:
+    if text is None or program_or_none(text) != tree:
         raise InvalidProgram(tree)
     return text
 
@@ -227,6 +228,13 @@ def letters_of_tree(tree):
     return "".join([letter for letter in sorted(found) if letter != "END"])
 
 
+def need_test(test, names):
+    """The tree of a test; UnknownName with the first of its letters that is none of the names."""
+    tree = test_tree(test)
+    need_known(letters_tested(tree), names)
+    return tree
+
+
 def letters_tested(tree):
     """The ascending string of the letters of the tree of a test."""
     found = {word: True for item in tree[1] for word in item[1:]}
@@ -254,28 +262,32 @@ def deeds_in(tree):
     return [statement for statement in _all_statements(tree) if is_deed(statement)]
 
 
+def loops_in(tree):
+    """The list of the loops of the tree of a program, in the order of the text."""
+    return [statement for statement in _all_statements(tree) if statement[0] == "while"]
+
+
 def has_loop(program):
     """Whether a program has a `while`."""
-    return _has_loop(program_tree(program))
-
-
-def _has_loop(tree):
-    """Whether a tree has a `while`."""
-    return "while" in [statement[0] for statement in _all_statements(tree)]
+    return loops_in(program_tree(program)) != []
 
 
 def is_plain(program):
     """Whether a program has no `while` within a `while`."""
-    loops = [statement for statement in _all_statements(program_tree(program)) if statement[0] == "while"]
-    return not any([_has_loop(statement[2]) for statement in loops])
+    return is_plain_tree(program_tree(program))
+
+
+def is_plain_tree(tree):
+    """Whether a tree has no `while` within a `while`."""
+    return not any([loops_in(statement[2]) for statement in loops_in(tree)])
 
 
 def statements_number(program):
     """How many statements a program has, those in braces counted."""
-    return _statements_in(program_tree(program))
+    return statements_in(program_tree(program))
 
 
-def _statements_in(tree):
+def statements_in(tree):
     """How many statements a tree has, those in braces counted."""
     return len(_all_statements(tree))
 
@@ -283,7 +295,7 @@ def _statements_in(tree):
 def straight_tree(program):
     """The tree of a program without loops; HasLoop for a program with some."""
     tree = program_tree(program)
-    if _has_loop(tree):
+    if loops_in(tree):
         raise HasLoop()
     return tree
 

@@ -6,7 +6,7 @@ from arrowcells.errors import Failed, InvalidNumber, TooMany
 from arrowcells.kinds import END, is_whole
 from arrowcells.names import need_known
 from arrowcells.programs import letters_of_tree, letters_tested, need_deed, need_few_letters, program_tree, test_tree
-from arrowcells.stores import Store, need_store
+from arrowcells.stores import made_store, need_store
 
 MOST_STEPS = 400
 MOST_RUN_CELLS = 100
@@ -16,6 +16,7 @@ class Heap:
     """Places and arrows that a run changes, and what it has used."""
 
     def __init__(self, store, letters):
+        self.store = store
         self.places = {letter: END for letter in letters}
         self.places.update(store.places)
         self.arrows = dict(store.arrows)
@@ -55,6 +56,19 @@ class Heap:
         for letter in letters_set(deed):
             self.sets[letter] = True
 
+    def twin(self):
+        """A heap that tells the same."""
+        twin = Heap(self.store, "")
+        twin.places = dict(self.places)
+        twin.arrows = dict(self.arrows)
+        twin.been = dict(self.been)
+        twin.news = dict(self.news)
+        twin.reads = dict(self.reads)
+        twin.writes = dict(self.writes)
+        twin.asks = dict(self.asks)
+        twin.sets = dict(self.sets)
+        return twin
+
     def new_place(self):
         """The place of a cell that is made now."""
         led_to = {place: True for place in list(self.places.values()) + list(self.arrows.values())}
@@ -69,21 +83,36 @@ class Run:
 
     def __init__(self, heap, letters, told):
         self.word, self.steps, self.deed = told
-        names = tuple([(letter, heap.places[letter]) for letter in letters])
-        self.store = Store(names, tuple([(place, heap.arrows[place]) for place in sorted(heap.arrows)]))
+        self.store = store_behind(heap, letters)
         self.reads = tuple(sorted(heap.reads))
         self.writes = tuple(sorted(heap.writes))
         self.asks = "".join([letter for letter in sorted(heap.asks) if letter in letters])
         self.sets = "".join([letter for letter in sorted(heap.sets) if letter in letters])
 
 
+def store_behind(heap, letters):
+    """The store that a heap is for the names with these letters."""
+    names = tuple([(letter, heap.places[letter]) for letter in letters])
+    return made_store(names, tuple([(place, heap.arrows[place]) for place in sorted(heap.arrows)]))
+
+
 def run(program, store, most):
     """The run of a program on a store with at most so many steps."""
+    return run_of_tree(need_run(program, store, most), store, most)
+
+
+def need_run(program, store, most):
+    """The tree of a program, behind all errors that a run of it on a store can give."""
     tree = program_tree(program)
     need_store(store)
     need_steps(most)
     need_few_letters(store.letters, tree)
     need_few_cells(store)
+    return tree
+
+
+def run_of_tree(tree, store, most):
+    """The run of the program with this tree, however many cells the store has."""
     heap = Heap(store, letters_of_tree(tree))
     return Run(heap, store.letters, walked(Code(tree), heap, most))
 

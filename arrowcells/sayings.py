@@ -12,12 +12,12 @@ MOST_BRACKETS = 4
 
 def is_saying(value):
     """Whether a value, whatever it is, is a saying."""
-    return _tree_or_none(value) is not None
+    return saying_or_none(value) is not None
 
 
 def saying_tree(saying):
     """The tree of a saying."""
-    tree = _tree_or_none(saying)
+    tree = saying_or_none(saying)
     if tree is None:
         raise InvalidSaying(saying)
     return tree
@@ -33,10 +33,10 @@ def need_picture(picture):
 
 def need_shown(tree, letters):
     """Raises UnknownName with the first letter that a saying shows and that is none of the letters."""
-    need_known(_shown_in(tree), letters)
+    need_known(shown_in(tree), letters)
 
 
-def _tree_or_none(value):
+def saying_or_none(value):
     """The tree of a saying, None for what is no saying."""
     if not isinstance(value, str):
         return None
@@ -109,10 +109,10 @@ def _steps_in(pictures):
 
 def shown_letters(saying):
     """The ascending string of the letters that are shown in some picture of a saying."""
-    return _shown_in(saying_tree(saying))
+    return shown_in(saying_tree(saying))
 
 
-def _shown_in(tree):
+def shown_in(tree):
     """The ascending string of the letters that are shown in some picture of a tree."""
     shown = {letter: True for picture in pictures_in(tree) for letter in letters_shown(picture)}
     return "".join(sorted(shown))
@@ -122,7 +122,7 @@ def saying_text(tree):
     """The saying with this tree."""
     text = _text(tree)
     # The text of what only looks like a tree leads to another tree, or to none.
-    if text is None or _tree_or_none(text) != tree:
+    if text is None or saying_or_none(text) != tree:
         raise InvalidSaying(tree)
     return text
 

@@ -18,6 +18,13 @@ class Store:
         wrong = _wrong_cell(cells)
         if wrong is not None:
             raise InvalidCells(wrong)
+        self.take(names, cells)
+
+    def __eq__(self, other):
+        return isinstance(other, Store) and self.names == other.names and self.cells == other.cells
+
+    def take(self, names, cells):
+        """Sets all attributes; only for the making of a new object."""
         self.names = names
         self.cells = cells
         self.letters = "".join([letter for letter, _ in names])
@@ -25,9 +32,6 @@ class Store:
         self.places = dict(names)
         self.arrows = dict(cells)
         self.led_to = {place: True for _, place in names + cells}
-
-    def __eq__(self, other):
-        return isinstance(other, Store) and self.names == other.names and self.cells == other.cells
 
     def at(self, letter):
         """The place to which a name leads."""
@@ -85,16 +89,31 @@ def need_store(value):
         raise NotAStore(value)
 
 
-def read_store(text):
-    """The store with this text."""
+def made_store(names, cells):
+    """The store with these names and cells, however many cells there are and however great their places."""
+    made = Store((("x", END),), ())
+    made.take(names, cells)
+    return made
+
+
+def store_in(text):
+    """The store that a value tells, None if it is not the text of a store."""
     halves = text.split(" | ") if isinstance(text, str) else []
     if len(halves) != 2:
-        raise InvalidText(text)
+        return None
     names = tuple([_name_in(word) for word in halves[0].split(" ")])
     cells = tuple([_cell_in(word) for word in halves[1].split(" ")]) if halves[1] != "none" else ()
     if not _are_store_names(names) or _wrong_cell(cells) is not None:
-        raise InvalidText(text)
+        return None
     return Store(names, cells)
+
+
+def read_store(text):
+    """The store with this text."""
+    store = store_in(text)
+    if store is None:
+        raise InvalidText(text)
+    return store
 
 
 def _name_in(word):

@@ -23,10 +23,18 @@ BARRED_WORDS = set("type typing typing_extensions enum Enum IntEnum StrEnum Flag
                    " namedtuple NamedTuple TypedDict TYPE_CHECKING abstractmethod".split())
 BARRED_ATTRIBUTES = set("items keys values pop update append clear extend insert remove reverse setdefault sort args"
                         " encode decode hex fromhex format union difference intersection".split())
-DUNDERS = {"__init__", "__eq__", "__contains__"}
+DUNDERS = {"__init__", "__eq__", "__contains__", "__len__", "__bool__", "__enter__", "__exit__"}
+# What they give is iterated at once, by a loop or by one of these, or a range is asked with `in`.
+ITERATORS = {"zip", "enumerate", "reversed", "range"}
+VIEWS = {"items", "keys", "values"}
+ITERATED_BY = {"list", "tuple", "dict", "sorted", "sum", "any", "all", "enumerate", "zip", "min", "max"}
 BARRED_NODES = (ast.Global, ast.Nonlocal, ast.AsyncFunctionDef, ast.Await, ast.Yield, ast.YieldFrom, ast.GeneratorExp,
-                ast.Try, ast.With, ast.Lambda, ast.Import, ast.Div, ast.Match, ast.NamedExpr, ast.AnnAssign,
+                ast.Try, ast.Lambda, ast.Import, ast.Div, ast.Match, ast.NamedExpr, ast.AnnAssign,
                 ast.Assert, ast.Delete, ast.MatMult)
+METHODS_LISTED = {
+    "Store": "at arrow is_gone", "Plan": "comes_before", "Lengths": "members counted",
+    "Bench": "do run wish lift undo trial tried __len__", "Console": "say",
+}
 INTERFACE = {
     "errors": "ArrowError",
     "stores": "Store read_store",
@@ -49,6 +57,18 @@ INTERFACE = {
     "ahead": "ahead weakest",
     "broken": "broken is_kept leaking",
     "differ": "leave_same differing",
+    "farruns": "FarRun far_run turns",
+    "promises": "promise_broken wide found_promise loop_text way_cells weight_of",
+    "walkers": "stop_at meet meets_always missed_track doubling_steps track_of meeting_place",
+    "takings": "part_with part_without laid_together footprint takings",
+    "weavings": "weavings woven weaving_to touching",
+    "lostcells": "arrows_into unasked lost_rings counted swept counted_run",
+    "countings": "stores_number store_at place_of",
+    "benches": "Bench",
+    "consoles": "Console",
+    "checker": "accepts",
+    "certificates": "certify_keeps certify_possible certify_inside certify_run certify_alike certify_kept certify_same"
+                    " certify_no_leak certify_promise certify_meet",
 }
 
 
@@ -134,6 +154,64 @@ class FormTest(unittest.TestCase):
         for name, words in INTERFACE.items():
             defined = {node.name for node in all_trees[name].body if isinstance(node, (ast.FunctionDef, ast.ClassDef))}
             self.assertLessEqual(set(words.split()), defined, name)
+
+    def test_listed_methods_are_defined_in_their_classes(self):
+        holders = {node.name: node for tree in trees().values() for node in tree.body if isinstance(node, ast.ClassDef)}
+        for name, words in METHODS_LISTED.items():
+            self.assertLessEqual(set(words.split()), {node.name for node in functions_of(holders[name])}, name)
+
+    def test_classes_are_plain(self):
+        for name, tree in trees().items():
+            for node in ast.walk(tree):
+                if isinstance(node, ast.ClassDef):
+                    self.assertTrue(node.name[0].isalpha() and not node.decorator_list, (name, node.name))
+                    self.assertTrue(all(isinstance(part, ast.FunctionDef) for part in node.body[1:]), (name, node.name))
+
+    def test_with_stands_over_trials_alone(self):
+        for name, tree in trees().items():
+            for node in ast.walk(tree):
+                if isinstance(node, ast.With):
+                    self.assertEqual([ast.unparse(item.context_expr) for item in node.items], ["self.trial()"], name)
+                if isinstance(node, ast.FunctionDef) and node.name == "__exit__":
+                    for part in node.body[0].body if isinstance(node.body[0], ast.If) else node.body:
+                        self.assertIsInstance(part, (ast.Assign, ast.If), name)
+                    self.assertEqual([ast.unparse(part.test) for part in ast.walk(node) if isinstance(part, ast.If)],
+                                     ["kind is not None"])
+                    self.assertFalse([part for part in ast.walk(node) if isinstance(part, (ast.Call, ast.Subscript))])
+
+    def test_iterators_are_iterated_at_once(self):
+        for name, tree in trees().items():
+            told = set()
+            for node in ast.walk(tree):
+                if isinstance(node, (ast.For, ast.comprehension)):
+                    told.add(node.iter)
+                if isinstance(node, ast.Call) and isinstance(node.func, ast.Name) and node.func.id in ITERATED_BY:
+                    told.update(node.args)
+                if isinstance(node, ast.Call) and isinstance(node.func, ast.Name) and node.func.id == "reversed":
+                    told.update(part for part in node.args if ast.unparse(part).startswith("range("))
+                if isinstance(node, ast.Compare) and isinstance(node.ops[0], (ast.In, ast.NotIn)):
+                    told.update(part for part in node.comparators if ast.unparse(part).startswith("range("))
+                if isinstance(node, ast.Assign) and isinstance(node.targets[0], ast.Name):
+                    told.update(part for part in [node.value] if ast.unparse(part).startswith("range("))
+            for node in ast.walk(tree):
+                if isinstance(node, ast.Call):
+                    word = node.func.id if isinstance(node.func, ast.Name) else getattr(node.func, "attr", "")
+                    if word in (ITERATORS if isinstance(node.func, ast.Name) else VIEWS):
+                        self.assertIn(node, told, (name, node.lineno))
+
+    def test_stars_stand_over_plain_names(self):
+        for name, tree in trees().items():
+            for node in ast.walk(tree):
+                if isinstance(node, ast.Call):
+                    for part in node.args:
+                        if isinstance(part, ast.Starred):
+                            self.assertRegex(ast.unparse(part), r"\A\*\w+(\.\w+)?\Z", (name, node.lineno))
+
+    def test_exponents_are_told(self):
+        for name, tree in trees().items():
+            for node in ast.walk(tree):
+                if isinstance(node, ast.BinOp) and isinstance(node.op, ast.Pow):
+                    self.assertTrue(isinstance(node.right, ast.Constant) and 0 <= node.right.value <= 64, name)
 
     def test_only_plain_statements_and_expressions(self):
         for name, tree in trees().items():
