@@ -243,3 +243,64 @@ def is_match(first, second, matched):
     arrows = {told(cell): told(place) for cell, place in first.arrows.items()}
     return (names == [(letter, there(place)) for letter, place in second.names]
             and arrows == {there(cell): there(place) for cell, place in second.arrows.items()})
+
+
+class Restless(Exception):
+    """A run is restless at the loop whose number is told."""
+
+
+class CourseWalk(Walk):
+    """A walk of a plain program that keeps the courses of its turns; shape_of tells the shape of names and cells."""
+
+    def __init__(self, names, cells, tree, most, shape_of):
+        self.shape_of = shape_of
+        self.course = []
+        self.turns = [0] * loops_number(tree)
+        self.restless = None
+        try:
+            super().__init__(names, cells, tree, most)
+        except Restless as error:
+            self.restless = error.args[0]
+
+    def through(self, tree, first, loop=0):
+        for statement in tree:
+            if statement[0] == "while":
+                self.go_round(statement, first, loop)
+            elif statement[0] == "if":
+                if self.look(statement[1]):
+                    self.through(statement[2], first, loop)
+                else:
+                    self.through(statement[3], first + deeds_number(statement[2]), loop + loops_number(statement[2]))
+            else:
+                self.step(statement, first)
+                self.course.append((statement, self.shape()))
+            first += deeds_number((statement,))
+            loop += loops_number((statement,))
+
+    def go_round(self, statement, first, loop):
+        before, changes = None, 0
+        while True:
+            self.course = []
+            if not self.look(statement[1]):
+                return
+            self.turns[loop] += 1
+            self.through(statement[2], first)
+            if before is not None and before != self.course:
+                changes += 1
+                if changes > 60:
+                    raise Restless(loop)
+            before = self.course
+
+    def look(self, test):
+        found = super().look(test)
+        self.course.append((test, self.shape()))
+        return found
+
+    def shape(self):
+        return self.shape_of(tuple(sorted(self.at.items())), tuple(sorted(self.arrows.items())))
+
+
+def loops_number(tree):
+    """How many loops there are in a tree."""
+    return sum((one[0] == "while") + loops_number(one[2]) + loops_number(one[3] if len(one) > 3 else ())
+               for one in tree if one[0] in ("if", "while"))
