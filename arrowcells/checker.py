@@ -177,7 +177,7 @@ def _breaks_promise(claim, word, store):
 def _check_meet(claim, paper):
     """The walkers meet in the turn, and the paper tells how many rings lie between them."""
     _, ring, slow, fast, lead, turn = claim.numbers
-    if not is_number(paper) or paper < 0 or lead + (fast - slow) * turn != paper * ring:
+    if not is_number(paper) or lead + (fast - slow) * turn != paper * ring:
         return False
     return do_meet(*claim.numbers)
 

@@ -67,15 +67,14 @@ class Circuit:
         for many, row in enumerate(self.rows):
             if not self.turn.is_let(row):
                 return many
-        ends = [self.end_of(told, is_one, many) for told, is_one in self.turn.limits
+        # What must be just 1 was so at the beginning and at the end of a period, so that it does not grow or fall.
+        ends = [self.end_of(told, many) for told, is_one in self.turn.limits if not is_one
                 for many in range(self.first, self.first + self.period)]
         return min([end for end in ends if end is not None], default=None)
 
-    def end_of(self, told, is_one, many):
-        """The first of the turns a period apart, from one on, in which a limit does not hold; None if there is none."""
+    def end_of(self, told, many):
+        """The first of the turns a period apart, from one on, in which a sum is below 2; None if there is none."""
         growth = value_of((0, told[1]), self.growth)
-        if is_one:
-            return None if growth == 0 else many + self.period
         if growth >= 0:
             return None
         times = (value_of(told, self.rows[many]) - 2) // -growth + 1

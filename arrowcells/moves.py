@@ -70,11 +70,8 @@ class Moves:
         return self.known[key]
 
     def made(self, shape, deed, index, is_one):
-        """The move of a deed that needs the stretch with an index, whose length is 1 or not."""
-        many = self.done_on(shape, deed, None)
-        if index is None:
-            return Move(many[0], many[1], None)
-        one = self.done_on(shape, deed, index)
+        """The move of a deed that needs the stretch with an index, whose length is 1 or not; None if it needs none."""
+        many, one = self.done_on(shape, deed, None), self.done_on(shape, deed, index)
         # If both shapes are the same, no piece of the stretch is a stretch of its own behind the deed;
         # so the sums for a length from 2 on tell for the length 1, too.
         if many[0] == one[0]:

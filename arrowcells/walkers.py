@@ -71,7 +71,7 @@ def _least_turn(tail, ring, slow, fast, lead):
     # The turns that may do are those of one remainder, from the one on in which the first walker is on the ring.
     step = ring // part
     turn = -(lead // part) * _inverse(ahead // part, step) % step
-    first = max(1, -(-tail // slow)) if tail > 0 else 1
+    first = -(-tail // slow) if tail > 0 else 1
     return first + (turn - first) % step
 
 

@@ -86,6 +86,15 @@ PAPERS = [(), 0, 1, 2, -1, True, None, "", "x=0 | none", "x=1 | 1>0", "x=1 | 1>1
           ((0,), ()), ((), (0,)), ((), (1,)), ((1, 1),), ((1, 1), (2, 2)), [], (T,), ("start", "x=1 | 1>0"), ("turn", "x=1 | 1>0"), ("end", "x=0 | none")]
 
 
+class Yes:
+    """Equal to anything."""
+
+    __hash__ = None
+
+    def __eq__(self, other):
+        return True
+
+
 class FormTest(unittest.TestCase):
     def refuses(self, claim, paper):
         self.assertIs(accepts(claim, paper), False, (claim, paper))
@@ -164,6 +173,29 @@ class FormTest(unittest.TestCase):
             for value in values:
                 self.refuses((word, value, value), ())
                 self.refuses((word, value, value, value), value)
+
+    def test_values_that_are_equal_to_anything(self):
+        # True is no number, and an object may say that it is equal to a part.
+        one, other = "x=1 | 1>0", "x=5 | 5>0"
+        self.takes(("alike", one, other), ((1, 5),))
+        self.takes(("alike", other, one), ((5, 1),))
+        for claim, papers in ((("alike", one, other), (((True, 5),), (Yes(),), ((1, Yes()),), ((Yes(), 5),), Yes())),
+                              (("alike", other, one), (((5, True),), ((5, Yes()),))), (("run", "none", one, one), (Yes(), [])),
+                              (("run", "x = x", one, one), ((Yes(),), Yes(), [one])), (("run", "drop x", "x=0 | none", "x=0 | none"), (None, (), Yes())),
+                              (("run", "while x = x { none }", one, one), (None, (), Yes())), (("keeps", one, "rest"), (Yes(), [])),
+                              (("fits", one, "chain x END 1"), (((), (True,)), ((), (Yes(),)), (Yes(), (1,)), ((), Yes()), Yes())),
+                              (("possible", "x", "rest"), (Yes(), (one,))), (("meet", 0, 1, 1, 1, 0, 1), (False, Yes())),
+                              (("meet", 0, 1, 1, 2, 0, 1), (True, Yes(), 1 << 1, -1)),
+                              (("no promise", "x", "rest", "x != x", "none", "lost none", "rest", None), ((Yes(), one), ("start", Yes()), Yes(), (one, "start")))):
+            for paper in papers:
+                self.refuses(claim, paper)
+        for claim in (("keeps", Yes(), "rest"), ("keeps", one, Yes()), (Yes(), one, "rest"), Yes(), ("possible", Yes(), "rest"), ("run", Yes(), one, one),
+                      ("promise", "x", "rest", Yes(), "none", "rest", "rest", None), ("meet", 0, Yes(), 1, 1, 0, 1), ("meet", 0, 1, 1, 1, 0, Yes()),
+                      ("promise", "x", "rest", "x != x", "none", "rest", "rest", Yes()), ("promise", "x", "rest", "x != x", "none", "rest", "rest", (Yes(),)),
+                      ("promise", "x", "rest", "x != x", "none", "rest", "rest", (("x", Yes()),)),
+                      ("promise", "x", "rest", "x != x", "none", "rest", "rest", ((Yes(), 1),))):
+            for paper in ((), "x=0 | none", 0):
+                self.refuses(claim, paper)
 
     def test_parts_of_the_wrong_form(self):
         swaps = {"saying": BAD, "program": NO_PROGRAMS + ["while x = x { none }"], "names": ["", "yx", "xx", "abcde", "X", "x y"]}

@@ -73,6 +73,15 @@ class CountingsTest(unittest.TestCase, Asking):
         twice = Lot("x", (box("x>1 -.", "1+", "0+"), box("x>1 -.", "2 3", "0 1")))
         self.assertEqual(stores_number(twice, 4), stores_number(Lot("x", twice.boxes[:1]), 4))
 
+    def test_numbers_of_lost_cells_that_depend_on_lengths(self):
+        lot = Lot("xy", (box("x>1 -. y>1", "1", "1", "0 2"), box("x>1 -. y>1", "1", "2", "1"), box("x>1 -. y>1", "2", "1", "1 0"),
+                         box("x>1 -. y>1", "2", "2", "0"), box("x>1 ->1 y.", "1", "1 3", "2"), box("x>1 ->1 y.", "3", "1", "0"),
+                         box("x>1 ->1 y.", "2", "1 2", "1"), box("x. y!", "4")))
+        for places in (3, 4):
+            stores = sorted((store for store in stores_on("xy", places) if has_store(lot, store)), key=place_in_list)
+            self.assertGreater(len(stores), 5)
+            self.check(lot, stores, places)
+
     def test_told_places(self):
         self.assertEqual([store_at(ALL, 1, index).text for index in range(4)], ["x=0 | 1>0", "x=0 | 1>1", "x=1 | 1>1", "x=1 | 1>0"])
         self.assertEqual(store_at(index=0, places=0, lot=every("xy")).text, "x=0 y=0 | none")

@@ -162,6 +162,28 @@ class FarRunTest(unittest.TestCase, Asking):
         self.assertEqual(seen(f"{CHANGING}; while y = y {{ none }}", long), ("restless", 0))
         self.assertEqual(seen("while x = x { if t = END { t = new } else { t = END } }", PLAN), ("restless", 0))
 
+    def test_lengths_of_one_that_make_no_other_course(self):
+        # Two rings are handed round; where x goes on, both lengths 1 and 2 lead to the same shapes.
+        rings = "t = x; x = y; y = t; x = next x"
+        self.check(f"while x != END {{ {rings} }}", Plan("x>0 y>1", (1, 2), 0), "endless", None, None, None, None)
+        self.check(f"while u != END {{ {rings}; u = next u }}", Plan("u>1 -. x>2 y>3", (HUGE, 1, 2), 0), "done", "u. x>1 y>2 | 1 2 | {h}",
+                   6 * HUGE + 1, None, (HUGE,))
+        self.check(f"while u != END {{ {rings}; u = next u }}", Plan("u>1 -. x>2 y>3", (HUGE - 1, 1, 2), 0), "done", "u. x>1 y>2 | 2 1 | {m}",
+                   6 * HUGE - 5, None, (HUGE - 1,))
+
+    def test_courses_that_differ_within_a_turn_alone(self):
+        # The shape at the test is always the same, but t comes to another place on the one ring than on the other.
+        program = "while u != END { t = x; x = y; y = t; t = next x; t = END; u = next u }"
+        for length, expected in ((61, ("done", "u. x>1 y>2 | 2 1 | 61", 61 * 7 + 1, None, (61,))), (62, ("restless", 0)), (HUGE, ("restless", 0))):
+            self.assertEqual(seen(program, Plan("u>1 -. x>2 y>3", (length, 1, 2), 0)), expected)
+        self.assertEqual(seen(program, Plan("u>1 -. x>2 y>3", (HUGE, 3, 2), 0))[4], (HUGE,))
+
+    def test_numbers_of_deeds_and_loops(self):
+        self.assertEqual(seen("if x = END { x = x; x = x } else { drop x; drop x }", PLAN), ("fault", "x! | none | 0", 2, 3, ()))
+        both = "if x = END { while x = x { x = x; x = x }; x = x } else { while x != END { x = next x; if x = END { drop x; drop x } } }"
+        self.assertEqual(seen(f"while x = END {{ x = x }}; {both}; x = x", Plan("x>1 -.", (4,), 0)), ("fault", "x. | none | 4", 14, 5, (0, 0, 4)))
+        self.assertEqual(seen("while x != END { if x = END { x = x } else { x = next x; if x = END { x = x; x = next x } } }; x = x", PLAN)[3], 3)
+
     def test_a_turn_that_fails_is_not_compared(self):
         program = "while x = x { x = next x; if t = END { t = new } else { t = END } }"
         # In the last turn the deed fails; the turns before it have one change less than there are turns.

@@ -138,6 +138,18 @@ class PromiseBrokenTest(unittest.TestCase, Asking):
                 self.assertGreaterEqual(weight_of(plan_run(body, found[1], 400).plan, weights), weight_of(found[1], weights))
             self.assertIsNone(promise_broken(Lot("xy", ()), test, body, promise, promise, None))
 
+    def test_falls_of_several_stretches(self):
+        # The way of x is that of y behind the turn: a tail and a ring, both of which count.
+        body, test = "y = x; x = next x", "x != END and y = END"
+        for tails, rings, weight, expected in (
+                ("2 4", "1 5", 1, (4, 5)), ("2 3", "1 5", 1, None), ("2 4", "1 4", 1, None), ("2 3", "1+2", 1, (3, 7)), ("2+2", "1 5", 1, (8, 1)),
+                ("2", "1 6+", 1, (2, 7)), ("2", "1", 3, (2, 1)), ("2", "1+", 2, (2, 3)), ("2+", "1", 2, (4, 1)), ("2 9", "1", 2, (9, 1)),
+                ("2 3", "1 2 20", 2, (3, 2)), ("2 3", "1 3 20", 1, (3, 20)), ("2", "1 4+5", 1, (2, 9))):
+            only = Lot("xy", (box("x>1 ->1 y.", tails, rings, "0+"),))
+            goal = image(only, body)
+            found = promise_broken(Lot("xy", ()), test, body, either(only, goal), either(only, goal), (("x", 9), ("y", weight)))
+            self.assertEqual(found and (found[0], found[1].lengths), expected and ("fall", expected), (tails, rings, weight))
+
     def test_helpers_lead_to_end_in_each_turn(self):
         body = "if t = END { x = next x } else { drop t }; t = x"
         lists = lot_of("chain x END 0+ * rest", "x")
