@@ -249,6 +249,29 @@ class FarRunTest(unittest.TestCase, Asking):
         self.assertGreater(min(words.values()), 10)
         self.assertGreater(far, 8)
 
+    def test_on_rings_at_random(self):
+        # All ways come back, so that hardly a deed fails; a list from u tells how many turns there are.
+        random = Random(292)
+        words = {}
+        while sum(words.values()) < 500:
+            names = random.choice(["x", "xy", "txy"])
+            parts = []
+            for _ in range(random.randint(1, 6)):
+                a, b = random.choice("xyt"), random.choice("xyt")
+                parts.append(random.choice([
+                    f"{a} = {b}", f"{a} = next {b}", f"{a} = next {b}", f"next {a} = {b}", f"{a} = new; next {a} = {b}",
+                    f"if {a} = {b} {{ {a} = next {a} }}", f"if {a} != {b} {{ {a} = next {b} }} else {{ next {a} = {a} }}"]))
+            program = f"while u != END {{ {'; '.join(parts)}; u = next u }}"
+            cells = random.sample(range(1, 20), random.randint(1, 6))
+            leads = [(letter, random.choice(cells)) for letter in names] + [("u", 100)]
+            many = random.choice([20, 61, 62, 70])
+            arrows = [(cell, random.choice(cells)) for cell in cells] + [(cell, cell + 1) for cell in range(100, 99 + many)]
+            plan = plan_of(Store(tuple(sorted(leads)), tuple(sorted(arrows + [(99 + many, 0)]))))
+            told = seen(program, plan)
+            words[told[0]] = words.get(told[0], 0) + 1
+            self.assertEqual(told, naively(program, plan, 5000), (program, plan.text))
+        self.assertGreater(min(words["done"], words["fault"]), 100)
+
     def test_walkers_on_tracks(self):
         # [36]: the chase ends when the walkers first meet.
         for tail, ring in ((0, 1), (0, 5), (3, 4), (7, 7), (10, 3), (12, 1), (1, 40)):
