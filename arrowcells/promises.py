@@ -125,7 +125,7 @@ def loop_text(names, test, body):
     tree = straight_tree(body)
     need_few_letters(names, tree)
     helpers = [f"{letter} = END; " for letter in letters_of_tree(tree) if letter not in names]
-    text = f"while {test} {{ " + "".join(helpers) + f"{body} }}"
+    text = "while " + test + " { " + "".join(helpers) + body + " }"
     if not is_program(text):
         raise InvalidProgram(text)
     return text

@@ -52,10 +52,14 @@ class Use:
     def __init__(self, tree, store):
         heap = Heap(store, letters_of_tree(tree))
         _, _, deed = walked(Code(tree), heap, MOST_STEPS)
-        failed = [] if deed is None else letters_asked(deeds_in(tree)[deed])
         self.writes = [place for place in heap.writes if place in store.arrows]
         self.sets = [letter for letter in heap.sets if letter in store.letters]
-        self.uses = {**heap.reads, **heap.writes, **heap.asks, **heap.sets, **{letter: True for letter in failed}}
+        self.uses = {}
+        for told in (heap.reads, heap.writes, heap.asks, heap.sets):
+            self.uses.update(told)
+        # The names that a failing deed would ask count, too.
+        for letter in [] if deed is None else letters_asked(deeds_in(tree)[deed]):
+            self.uses[letter] = True
 
     def is_in_the_way_of(self, other):
         """Whether something that this program writes or sets is used by another one."""
